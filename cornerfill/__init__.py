@@ -1,0 +1,1 @@
+"""Cornerfill: boards filled with corners of three cells."""
