@@ -6,6 +6,7 @@ import pathlib
 import unittest
 
 PACKAGE = pathlib.Path(__file__).resolve().parent.parent / "cornerfill"
+MODULES = ("__init__.py board.py corners.py errors.py notes.py rectangles.py small.py squares.py").split()
 ALLOWED = set("""
     len range enumerate zip min max sum abs sorted reversed int str bool list tuple dict set frozenset isinstance ord
     repr any all divmod Exception ValueError TypeError KeyError IndexError LookupError ZeroDivisionError
@@ -24,7 +25,7 @@ def nodes(path):
 class Sources(unittest.TestCase):
     def test_the_modules_are_there(self):
         names = [path.name for path in sources()]
-        for name in ("__init__.py", "board.py", "corners.py", "errors.py"):
+        for name in MODULES:
             self.assertIn(name, names)
 
     def test_only_the_package_itself_is_imported(self):
